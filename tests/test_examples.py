@@ -1,0 +1,40 @@
+"""The examples of the document that have landed."""
+
+import unittest
+
+from rootstalls.brims import brim
+from rootstalls.deals import led, out_of
+from rootstalls.fractions import fraction, over, plus
+from rootstalls.striking import struck
+from rootstalls.webs import Web, held, root_of
+
+even = Web(3, [
+    (0, 1, (1, 1), (1, 1), (1, 1)), (1, 2, (1, 1), (1, 1), (1, 1)), (0, 2, (1, 1), (1, 1), (1, 1))
+])
+odd = led(even, 2, (2, 1))
+none = ((0, 1), (0, 1), (0, 1))
+
+
+class Examples(unittest.TestCase):
+    def test_e01(self):
+        self.assertEqual(
+            ((-3, 2), (5, 6), (2, 3), (2, 1)),
+            (fraction(6, -4), plus((1, 2), (1, 3)), over((1, 2), (3, 4)), root_of((1, 2), (8, 1)))
+        )
+
+    def test_e02(self):
+        self.assertEqual(
+            (((3, 1), (2, 1), (3, 2)), (1, 2)), (held(odd), out_of(even, (0, 0, (1, 1))))
+        )
+
+    def test_e03(self):
+        self.assertEqual((3, 5), brim(even, ((1, 1), (0, 1), (0, 1)), 1))
+
+    def test_e05(self):
+        self.assertEqual(
+            (True, [(2, 1), (3, 2), (0, 1)]), struck(even, none, none, (0, 1, 2))
+        )
+
+
+if __name__ == "__main__":
+    unittest.main()

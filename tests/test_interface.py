@@ -1,0 +1,64 @@
+"""The interface's parts that have landed: names, arguments, and where they are defined."""
+
+import importlib
+import inspect
+import unittest
+
+FUNCTIONS = {
+    "fractions": {
+        "fraction": "top bottom", "plus": "one other", "minus": "one other", "times": "one other",
+        "over": "one other", "is_below": "one other",
+    },
+    "webs": {
+        "root_of": "held other", "held": "web", "roots": "web", "neighbours": "web ware",
+        "pieces": "web",
+    },
+    "deals": {
+        "out_of": "web move", "moved": "web move", "led": "web index amount",
+        "played": "web purse deal", "owes": "web purse deal", "is_deal": "web purse wish thing",
+        "moves_between": "one_web other_web", "change_of": "one_web other_web",
+    },
+    "striking": {"struck": "web purse wish order"},
+    "wishes": {
+        "scales": "web purse wish", "bar": "web purse wish", "is_scales": "web purse wish thing",
+        "is_bar": "web purse wish thing", "deal_by": "web scales", "deal_for": "web purse wish",
+    },
+    "brims": {
+        "brim": "web purse ware", "brim_deal": "web purse ware",
+        "least_more": "web purse wish ware", "rule": "web purse wish one other",
+        "sides": "web purse wish bar",
+    },
+}
+CLASSES = {
+    ("webs", "Web"): {"__init__": "wares stalls", "__eq__": "other"},
+    ("strikings", "Striking"): {
+        "__init__": "web purse wish", "strike": "ware", "more": "ware amount", "back": "",
+        "left": "", "slant": "ware", "root": "one other", "could": "ware", "depth": "", "copy": "",
+        "trying": "deed",
+    },
+}
+
+
+class Interface(unittest.TestCase):
+    def test_functions(self):
+        for file, functions in FUNCTIONS.items():
+            module = importlib.import_module("rootstalls." + file)
+            for name, wanted in functions.items():
+                function = getattr(module, name)
+                self.assertTrue(inspect.isfunction(function))
+                self.assertEqual(module.__name__, function.__module__)
+                self.assertEqual(wanted.split(), list(inspect.signature(function).parameters))
+
+    def test_classes_have_their_methods_themselves(self):
+        for (file, name), methods in CLASSES.items():
+            module = importlib.import_module("rootstalls." + file)
+            one = getattr(module, name)
+            self.assertEqual(module.__name__, one.__module__)
+            for method, wanted in methods.items():
+                self.assertIn(method, vars(one))
+                names = list(inspect.signature(vars(one)[method]).parameters)
+                self.assertEqual(["self"] + wanted.split(), names)
+
+
+if __name__ == "__main__":
+    unittest.main()

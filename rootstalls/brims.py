@@ -1,10 +1,10 @@
 """The most of a ware, the least purse, and the rule between two wares."""
 
 from rootstalls.deals import check_purse, check_wish
-from rootstalls.errors import BadBar, BadWare
+from rootstalls.errors import BadBar
 from rootstalls.reckoning import ONE, ZERO, are_amounts, negated
 from rootstalls.striking import strike_row, table_of
-from rootstalls.webs import check_ware, pieces
+from rootstalls.webs import check_two, check_ware, pieces
 from rootstalls.wishes import both_sums, deal_by, filled_back, in_order
 
 
@@ -66,10 +66,7 @@ def rule(web, purse, wish, one, other):
     """Both slants of two wares and the root between them when all others have been struck."""
     check_purse(web, purse)
     check_wish(web, wish)
-    check_ware(web, one)
-    check_ware(web, other)
-    if one == other:
-        raise BadWare()
+    check_two(web, one, other)
     _, table, wrong = others_struck(web, purse, wish, (one, other))
     if wrong is not None:
         return None

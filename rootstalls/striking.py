@@ -43,6 +43,14 @@ class Table:
         beside = self.ties[one]
         return {other: beside[other] for other in beside if other != ware}
 
+    def among(self, wares):
+        """The table of these wares alone, the slants and the ties between them as they are."""
+        ties = {one: self.ties[one] for one in wares}
+        return Table(
+            {one: self.slants[one] for one in wares},
+            {one: {other: ties[one][other] for other in ties[one] if other in wares} for one in wares},
+        )
+
     def with_more(self, ware, amount):
         """The table with an amount more of a ware in the purse, before any strike."""
         slants = {one: self.slants[one] for one in self.slants}
@@ -84,6 +92,16 @@ def strike_row(table, order):
         steps.append((ware, table.slants[ware], table.ties[ware]))
         table = table.behind(ware)
     return (steps, table, None)
+
+
+def all_struck(table):
+    """Whether all wares of a table can be struck without a wrong sign."""
+    return strike_row(table, list(table.slants))[2] is None
+
+
+def is_met(web, purse, wish):
+    """Whether some deal meets the wish, all of them being right."""
+    return all_struck(table_of(web, purse, wish))
 
 
 def is_order(number, thing):

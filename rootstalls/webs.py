@@ -60,11 +60,41 @@ def check_ware(web, ware):
         raise BadWare()
 
 
+def check_two(web, one, other):
+    """Asks for two unlike wares of the web."""
+    check_ware(web, one)
+    check_ware(web, other)
+    if one == other:
+        raise BadWare()
+
+
+def across(stall, ware):
+    """The other ware of a stall."""
+    if ware == stall[0]:
+        return stall[1]
+    return stall[0]
+
+
+def hold_of(stall, ware):
+    """What a stall holds of one of its wares."""
+    if ware == stall[0]:
+        return stall[2]
+    return stall[3]
+
+
+def stalls_of(ware, stalls):
+    """Those of such stalls that stand at a ware."""
+    return [stall for stall in stalls if ware in stall[:2]]
+
+
+def without_these(web, indexes):
+    """The web without some stalls."""
+    return Web(web.wares, [stall for index, stall in enumerate(web.stalls) if index not in indexes])
+
+
 def kept_of(ware, stalls):
     """What such stalls hold of a ware together."""
-    ones = [stall[2] for stall in stalls if stall[0] == ware]
-    others = [stall[3] for stall in stalls if stall[1] == ware]
-    return summed(ones + others)
+    return summed([hold_of(stall, ware) for stall in stalls_of(ware, stalls)])
 
 
 def held(web):
@@ -85,9 +115,7 @@ def roots(web):
 def neighbours(web, ware):
     """The ascending tuple of the wares to which a stall leads from the ware."""
     check_ware(web, ware)
-    ones = [stall[1] for stall in web.stalls if stall[0] == ware]
-    others = [stall[0] for stall in web.stalls if stall[1] == ware]
-    return tuple(sorted(set(ones + others)))
+    return tuple(sorted(set([across(stall, ware) for stall in stalls_of(ware, web.stalls)])))
 
 
 def pieces(web):

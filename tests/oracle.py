@@ -1,9 +1,9 @@
-"""What the document says of tables, reckoned another way: by determinants of Python's fractions."""
+"""What the document says, reckoned another way: with Python's fractions, by determinants, by trying all."""
 
 from fractions import Fraction
-from itertools import combinations
+from itertools import combinations, permutations
 
-from tests.samples import worth
+from tests.samples import pair, worth
 
 
 def stay(web, purse, wish):
@@ -82,3 +82,134 @@ def behind(rows, order):
                 for u in range(len(rows))
             ]
     return rows, slants
+
+
+def holds(stall, ware):
+    return worth(stall[2] if stall[0] == ware else stall[3])
+
+
+def beyond(stall, ware):
+    return stall[1] if stall[0] == ware else stall[0]
+
+
+def joined(web, indexes):
+    """The pieces that some stalls make of the wares, None if they close a ring."""
+    groups = [[ware] for ware in range(web.wares)]
+    for index in indexes:
+        one, other = [
+            [group for group in groups if ware in group][0] for ware in web.stalls[index][:2]
+        ]
+        if one is other:
+            return None
+        groups = [group for group in groups if group is not one and group is not other]
+        groups.append(sorted(one + other))
+    return sorted(groups)
+
+
+def forests(web, many):
+    """The ascending tuples of so many stalls without rings, each with the pieces that it makes."""
+    found = []
+    for indexes in combinations(range(len(web.stalls)), many):
+        groups = joined(web, indexes)
+        if groups is not None:
+            found.append((indexes, groups))
+    return found
+
+
+def joined_all(web):
+    """The pieces of a web."""
+    groups = [[ware] for ware in range(web.wares)]
+    for one, other in [stall[:2] for stall in web.stalls]:
+        touched = [group for group in groups if one in group or other in group]
+        groups = [group for group in groups if group not in touched]
+        groups.append(sorted(ware for group in touched for ware in group))
+    return sorted(groups)
+
+
+def is_ring(web, thing):
+    """Whether a tuple of right pairs is a ring: each stall once, each way ending where the next begins."""
+    if not thing or len({index for index, _ in thing}) < len(thing):
+        return False
+    return all(
+        beyond(web.stalls[index], ware) == thing[(at + 1) % len(thing)][1]
+        for at, (index, ware) in enumerate(thing)
+    )
+
+
+def quotient(web, ring):
+    """What a ring's stalls hold of the wares it goes from, over what they hold of those it goes to."""
+    product = Fraction(1)
+    for index, ware in ring:
+        stall = web.stalls[index]
+        product *= holds(stall, ware) / holds(stall, beyond(stall, ware))
+    return product
+
+
+def tellings(web, ring):
+    """All ways to tell a ring."""
+    back = tuple((index, beyond(web.stalls[index], ware)) for index, ware in reversed(ring))
+    return [way[at:] + way[:at] for way in (ring, back) for at in range(len(ring))]
+
+
+def rings(web):
+    """All rings that come by no ware twice, by trying all rows of stalls."""
+    found = set()
+    for many in range(2, len(web.stalls) + 1):
+        for indexes in permutations(range(len(web.stalls)), many):
+            for ware in web.stalls[indexes[0]][:2]:
+                ring = walked(web, indexes, ware)
+                if ring and is_ring(web, ring) and len({at for _, at in ring}) == many:
+                    found.add(min(tellings(web, ring)))
+    return sorted(found)
+
+
+def walked(web, indexes, ware):
+    """The pairs of a walk from a ware along stalls, None if there is none."""
+    steps = []
+    for index in indexes:
+        if ware not in web.stalls[index][:2]:
+            return None
+        steps.append((index, ware))
+        ware = beyond(web.stalls[index], ware)
+    return tuple(steps)
+
+
+def fit_numbers(web):
+    """The numbers with which a web fits, by passing them on along stalls; None if it does not."""
+    numbers = {}
+    for first in range(web.wares):
+        if first not in numbers:
+            numbers[first] = Fraction(1)
+        for _ in web.stalls:
+            for stall in web.stalls:
+                one, other, held, _, root = stall
+                if one in numbers and other not in numbers:
+                    numbers[other] = numbers[one] * worth(held) / worth(root)
+                if other in numbers and one not in numbers:
+                    numbers[one] = numbers[other] * worth(root) / worth(held)
+    for one, other, held, _, root in web.stalls:
+        if worth(held) * numbers[one] != worth(root) * numbers[other]:
+            return None
+    return [numbers[ware] for ware in range(web.wares)]
+
+
+def ties(web):
+    """The ties of a web that fits."""
+    numbers = fit_numbers(web)
+    return [worth(stall[4]) * numbers[stall[0]] * numbers[stall[1]] for stall in web.stalls]
+
+
+def product_of(numbers):
+    product = Fraction(1)
+    for number in numbers:
+        product *= number
+    return product
+
+
+def left(web, told):
+    """The left table of told wares, as this package writes it."""
+    nothing = [(0, 1)] * web.wares
+    rest = [ware for ware in range(web.wares) if ware not in told]
+    rows = behind(matrix(web, nothing, nothing), rest[::-1])[0]
+    between = [[pair(-rows[one][other] if one != other else 0) for other in told] for one in told]
+    return (tuple(pair(rows[ware][ware]) for ware in told), tuple(tuple(row) for row in between))

@@ -110,6 +110,26 @@ def wrong_tuples(wares):
     return wrong_rows(wares) + [[ONE] * wares]
 
 
+def wrong_orders():
+    """Things that are no order of three."""
+    wrong = odd_things() + [
+        0, [0, 1, 2], (0, 1), (0, 1, 2, 0), (0, 1, 1), (0, 1, 3), (1, 2, 3), (-1, 0, 1),
+        (0, 1, 2, 3), (False, True, 2), (0, True, 2), ("0", "1", "2"), (0, 1, None), "012",
+        {0: 0, 1: 1, 2: 2}, range(3), (0, 1, 10 ** 400), ((0,), (1,), (2,)),
+    ]
+    return wrong + [(0, 1, one) for one in wrong_integers()]
+
+
+def wrong_told():
+    """Things that are no told wares of a web of three wares."""
+    wrong = [thing for thing in odd_things() if thing not in [(1,), (0, 2)]] + [
+        0, 2, [0], [0, 1], (), (1, 0), (0, 0), (0, 2, 1), (0, 1, 1, 2), (3,), (0, 3), (-1, 0),
+        (-3, -2), (0, 1, 2, 3), (False,), (0, True), (True, 2), (0, 10 ** 400), "012", range(2),
+        {0: 0, 1: 1}, (0,) * 3,
+    ]
+    return wrong + [(0, one) for one in wrong_integers()] + [(one, 2) for one in wrong_integers()]
+
+
 def is_long(thing):
     return isinstance(thing, (list, tuple)) and len(thing) > 1000
 
@@ -195,6 +215,26 @@ def fitting_web(chance, wares, stalls):
         held = root * scale[other] / scale[one]
         rows.append((one, other, pair(held), pair(root * root / held), pair(root)))
     return Web(wares, rows)
+
+
+def spoilt_web(chance, web):
+    """The web, one of its stalls no longer holding what it held."""
+    at = chance.randrange(len(web.stalls))
+    one, other, held, other_held, root = web.stalls[at]
+    stall = (one, other, pair(worth(held) * 2), pair(worth(other_held) / 2), root)
+    return Web(web.wares, web.stalls[:at] + (stall,) + web.stalls[at + 1:])
+
+
+def webs(seed, number, most_wares=5, most_stalls=16):
+    """Webs that fit, that fit but for one stall, and that fit nowhere, of all sizes."""
+    chance = random.Random(seed)
+    for at in range(number):
+        wares = chance.randint(1, most_wares)
+        stalls = chance.randint(0, min(2 * wares, most_stalls))
+        web = [fitting_web, random_web][at % 2](chance, wares, stalls)
+        if at % 4 == 2 and web.stalls:
+            web = spoilt_web(chance, web)
+        yield web
 
 
 def random_row(chance, wares):

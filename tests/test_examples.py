@@ -4,8 +4,11 @@ import unittest
 
 from rootstalls.brims import brim
 from rootstalls.deals import led, out_of
+from rootstalls.drags import drag, one_stall, trees, two_trees
 from rootstalls.fractions import fraction, over, plus
+from rootstalls.nothing import for_nothing
 from rootstalls.striking import struck
+from rootstalls.told import left_table
 from rootstalls.webs import Web, held, root_of
 
 even = Web(3, [
@@ -33,6 +36,25 @@ class Examples(unittest.TestCase):
     def test_e05(self):
         self.assertEqual(
             (True, [(2, 1), (3, 2), (0, 1)]), struck(even, none, none, (0, 1, 2))
+        )
+
+    def test_e04(self):
+        self.assertEqual(
+            ((1, 4), (1, 7), (1, 10)), (for_nothing(odd, 0), for_nothing(odd, 1), for_nothing(odd, 2))
+        )
+
+    def test_e06(self):
+        star = Web(4, [
+            (3, 0, (1, 1), (1, 1), (1, 1)), (3, 1, (1, 1), (1, 1), (1, 1)), (3, 2, (1, 1), (1, 1), (1, 1))
+        ])
+        self.assertEqual(
+            (((1, 2), (1, 2)), (((0, 1), (1, 2)), ((1, 2), (0, 1)))), left_table(star, (0, 1))
+        )
+
+    def test_e07(self):
+        self.assertEqual(
+            ((2, 3), (0, 1, (3, 2), (3, 2), (3, 2)), (3, 1), (2, 1)),
+            (drag(even, 0, 1), one_stall(even, 0, 1), trees(even), two_trees(even, 0, 1))
         )
 
 

@@ -28,6 +28,23 @@ FUNCTIONS = {
         "least_more": "web purse wish ware", "rule": "web purse wish one other",
         "sides": "web purse wish bar",
     },
+    "fewest": {
+        "least_wares": "web purse wish", "fewest_stalls": "web purse wish", "needed": "web purse wish",
+    },
+    "nothing": {
+        "fit": "web", "uneven_ring": "web", "is_uneven_ring": "web thing", "for_nothing": "web ware",
+        "taking": "web ware", "uneven_pieces": "web", "taken_in": "web order",
+    },
+    "rings": {"rings": "web", "uneven_rings": "web", "fewest_struck": "web", "star": "web ring"},
+    "told": {
+        "left_table": "web told", "parting": "one_web other_web told",
+        "is_parting": "one_web other_web told thing", "unfelt": "web told", "without": "web index",
+        "merged": "web ware",
+    },
+    "drags": {
+        "drag": "web one other", "one_stall": "web one other", "trees": "web",
+        "two_trees": "web one other",
+    },
 }
 CLASSES = {
     ("webs", "Web"): {"__init__": "wares stalls", "__eq__": "other"},

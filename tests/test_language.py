@@ -7,7 +7,7 @@ import unittest
 
 FOLDER = pathlib.Path(__file__).resolve().parent.parent / "rootstalls"
 FILES = sorted(path for path in FOLDER.iterdir() if path.name != "__pycache__")
-LIBRARY = {"math": ["gcd", "lcm", "isqrt"]}
+LIBRARY = {"math": ["gcd", "lcm", "isqrt"], "itertools": ["combinations", "permutations"]}
 CALLED = (
     "len range enumerate zip min max sum abs sorted reversed int str bool list tuple dict set "
     "isinstance ord any all divmod"

@@ -9,8 +9,8 @@ from rootstalls.webs import Web
 from rootstalls.wishes import scales
 from tests import oracle
 from tests.samples import (
-    BARE, EVEN, FULL, LARGE, LONE, NONE, ODD, ONE, SPLIT, ZERO, Case, cases, odd_things, pair,
-    wrong_integers, wrong_rows,
+    BARE, EVEN, FULL, LARGE, LONE, NONE, ODD, ONE, SPLIT, ZERO, Case, cases, pair, wrong_orders,
+    wrong_rows,
 )
 
 PAIR = Web(2, [(0, 1, ONE, ONE, ONE)])
@@ -85,12 +85,7 @@ class Struck(Case):
             self.refused(BadWish, {}, struck, EVEN, NONE, wrong, None)
 
     def test_orders_are_asked(self):
-        wrong = odd_things() + [
-            0, [0, 1, 2], (0, 1), (0, 1, 2, 0), (0, 1, 1), (0, 1, 3), (1, 2, 3), (-1, 0, 1),
-            (0, 1, 2, 3), (False, True, 2), (0, True, 2), ("0", "1", "2"), (0, 1, None), "012",
-            {0: 0, 1: 1, 2: 2}, range(3), (0, 1, 10 ** 400), ((0,), (1,), (2,)),
-        ]
-        for thing in wrong + [(0, 1, one) for one in wrong_integers()]:
+        for thing in wrong_orders():
             self.refused(BadOrder, {}, struck, EVEN, NONE, NONE, thing)
         self.refused(BadOrder, {}, struck, LONE, [ZERO], [ZERO], ())
         self.refused(BadOrder, {}, struck, LONE, [ZERO], [ZERO], (False,))

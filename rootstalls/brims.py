@@ -31,12 +31,17 @@ def brim(web, purse, ware):
     return table.slants[ware]
 
 
-def brim_deal(web, purse, ware):
-    """Moves that bring the brim and leave all stalls of other pieces as they are."""
-    steps, _ = others_struck_for_nothing(web, purse, ware)
+def taken(web, purse, ware):
+    """The brim, and moves that bring it and leave all stalls of other pieces as they are."""
+    steps, table = others_struck_for_nothing(web, purse, ware)
     moves = deal_by(web, in_order(filled_back(steps, {ware: ONE}, ONE)))
     piece = [wares for wares in pieces(web) if ware in wares][0]
-    return [move for move in moves if move[1] in piece]
+    return (table.slants[ware], [move for move in moves if move[1] in piece])
+
+
+def brim_deal(web, purse, ware):
+    """Moves that bring the brim and leave all stalls of other pieces as they are."""
+    return taken(web, purse, ware)[1]
 
 
 def least_more(web, purse, wish, ware):

@@ -5,6 +5,7 @@ from rootstalls.errors import (
 )
 from rootstalls.reckoning import (
     added, are_amounts, divided, is_integer, is_row, is_some, lessened, lies_below, squared,
+    summed,
 )
 from rootstalls.webs import Web, held, kept_of
 
@@ -36,6 +37,13 @@ def check_wish(web, wish):
     """Asks for an amount of each ware to end with."""
     if not is_row(wish) or not are_amounts(wish, web.wares):
         raise BadWish()
+
+
+def row_of(web, amounts):
+    """For each ware the sum of the amounts of it, told as pairs of a ware and an amount."""
+    return [
+        summed([amount for one, amount in amounts if one == ware]) for ware in range(web.wares)
+    ]
 
 
 def stall_led(stall, amount):

@@ -42,6 +42,15 @@ def are_amounts(things, number):
     return len(things) == number and all([is_amount(thing) for thing in things])
 
 
+def is_rising(number, thing):
+    """Whether a thing is an ascending tuple of integers from 0 on below this number."""
+    if not isinstance(thing, tuple) or not all([is_integer(one) for one in thing]):
+        return False
+    if any([one >= other for one, other in zip(thing, thing[1:])]):
+        return False
+    return len(thing) == 0 or (thing[0] >= 0 and thing[-1] < number)
+
+
 def lowest(top, bottom):
     """The fraction of two integers, the bottom not being 0."""
     common = gcd(top, bottom)

@@ -2,10 +2,9 @@
 
 from itertools import combinations
 
-from rootstalls.deals import is_index
 from rootstalls.errors import BadRing, TooMany
 from rootstalls.nothing import check_fit, fit, fitting_stall, is_uneven, tie_of
-from rootstalls.reckoning import divided, multiplied, summed
+from rootstalls.reckoning import divided, is_rising, multiplied, summed
 from rootstalls.webs import MOST_WARES, Web, across, without_these
 
 MOST_RINGS = 200
@@ -54,9 +53,7 @@ def fewest_struck(web):
 
 def ring_wares(web, thing):
     """The three ascending wares between which an ascending tuple of three stalls makes a ring."""
-    if not isinstance(thing, tuple) or len(thing) != 3:
-        raise BadRing()
-    if not all([is_index(web, index) for index in thing]) or not thing[0] < thing[1] < thing[2]:
+    if not is_rising(len(web.stalls), thing) or len(thing) != 3:
         raise BadRing()
     spans = [tuple(sorted(web.stalls[index][:2])) for index in thing]
     wares = sorted(set([ware for span in spans for ware in span]))

@@ -52,7 +52,7 @@ class Table:
         )
 
     def with_more(self, ware, amount):
-        """The table with an amount more of a ware in the purse, before any strike."""
+        """The table when the purse has so much more, or less, of a ware that is left."""
         slants = {one: self.slants[one] for one in self.slants}
         slants[ware] = added(slants[ware], amount)
         return Table(slants, self.ties)

@@ -6,21 +6,17 @@ from rootstalls.brims import others_struck
 from rootstalls.deals import is_index
 from rootstalls.errors import BadIndex, BadTold, NotApart, TooMany
 from rootstalls.reckoning import (
-    ZERO, are_amounts, divided, lessened, lies_below, multiplied, negated, summed,
+    ZERO, are_amounts, divided, is_rising, lessened, lies_below, multiplied, negated, summed,
 )
 from rootstalls.striking import is_met
 from rootstalls.webs import (
-    MOST_STALLS, Web, across, check_ware, hold_of, is_ware, kept_of, stalls_of, without_these,
+    MOST_STALLS, Web, across, check_ware, hold_of, kept_of, stalls_of, without_these,
 )
 
 
 def check_told(web, told):
     """Asks for an ascending tuple of wares, one at least."""
-    if not isinstance(told, tuple) or len(told) == 0:
-        raise BadTold()
-    if not all([is_ware(web, ware) for ware in told]):
-        raise BadTold()
-    if any([one >= other for one, other in zip(told, told[1:])]):
+    if not is_rising(web.wares, told) or len(told) == 0:
         raise BadTold()
 
 

@@ -118,12 +118,17 @@ def neighbours(web, ware):
     return tuple(sorted(set([across(stall, ware) for stall in stalls_of(ware, web.stalls)])))
 
 
+def joined(firsts, stall):
+    """The first ware of the piece of each ware, when a stall more joins two pieces."""
+    both = (firsts[stall[0]], firsts[stall[1]])
+    return [min(both) if first in both else first for first in firsts]
+
+
 def pieces(web):
     """The wares that hang together by stalls, as ascending tuples, by their first ones."""
     firsts = list(range(web.wares))
     for stall in web.stalls:
-        joined = (firsts[stall[0]], firsts[stall[1]])
-        firsts = [min(joined) if first in joined else first for first in firsts]
+        firsts = joined(firsts, stall)
     return [
         tuple([ware for ware in range(web.wares) if firsts[ware] == lead])
         for lead in sorted(set(firsts))

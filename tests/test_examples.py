@@ -7,6 +7,7 @@ from rootstalls.deals import led, out_of
 from rootstalls.drags import drag, one_stall, trees, two_trees
 from rootstalls.fractions import fraction, over, plus
 from rootstalls.nothing import for_nothing
+from rootstalls.slips import greatest_lots, kept
 from rootstalls.striking import struck
 from rootstalls.told import left_table
 from rootstalls.webs import Web, held, root_of
@@ -55,6 +56,13 @@ class Examples(unittest.TestCase):
         self.assertEqual(
             ((2, 3), (0, 1, (3, 2), (3, 2), (3, 2)), (3, 1), (2, 1)),
             (drag(even, 0, 1), one_stall(even, 0, 1), trees(even), two_trees(even, 0, 1))
+        )
+
+    def test_e08(self):
+        one = Web(2, [(0, 1, (1, 1), (1, 1), (1, 1))])
+        slips = [(0, (1, 1), 1, (2, 3)), (1, (1, 1), 0, (2, 3))]
+        self.assertEqual(
+            ([(0, 1)], (7, 12)), (greatest_lots(one, slips), kept(one, slips, (0, 1), 0))
         )
 
 

@@ -45,6 +45,16 @@ FUNCTIONS = {
         "drag": "web one other", "one_stall": "web one other", "trees": "web",
         "two_trees": "web one other",
     },
+    "forests": {
+        "all_trees": "web", "all_two_trees": "web one other", "rooted": "web gifts",
+        "small_web": "web told",
+    },
+    "unowed": {"unowed": "web purse wish", "is_unowed": "web purse wish thing"},
+    "slips": {
+        "can_fill": "web slips lot", "greatest_lots": "web slips", "kept": "web slips lot ware",
+        "in_row": "web slips order",
+    },
+    "customers": {"served": "web customers order", "spread": "web customers"},
 }
 CLASSES = {
     ("webs", "Web"): {"__init__": "wares stalls", "__eq__": "other"},

@@ -39,6 +39,12 @@ def check_wish(web, wish):
         raise BadWish()
 
 
+def check_some(amount):
+    """Asks for some amount."""
+    if not is_some(amount):
+        raise BadAmount()
+
+
 def row_of(web, amounts):
     """For each ware the sum of the amounts of it, told as pairs of a ware and an amount."""
     return [
@@ -76,6 +82,12 @@ def out_of(web, move):
     return taken_out(stall, stall_behind(stall, ware, amount), ware)
 
 
+def stalls_behind(stalls, move):
+    """The tuple of the stalls behind a move."""
+    index, ware, amount = move
+    return stalls[:index] + (stall_behind(stalls[index], ware, amount),) + stalls[index + 1:]
+
+
 def with_stall(web, index, stall):
     """The web with another stall in the place of this one."""
     return Web(web.wares, web.stalls[:index] + (stall,) + web.stalls[index + 1:])
@@ -85,16 +97,14 @@ def moved(web, move):
     """The web behind a move."""
     if not is_move(web, move):
         raise BadMove()
-    index, ware, amount = move
-    return with_stall(web, index, stall_behind(web.stalls[index], ware, amount))
+    return Web(web.wares, stalls_behind(web.stalls, move))
 
 
 def led(web, index, amount):
     """The web in which a stall holds this amount of its first ware."""
     if not is_index(web, index):
         raise BadIndex()
-    if not is_some(amount):
-        raise BadAmount()
+    check_some(amount)
     return with_stall(web, index, stall_led(web.stalls[index], amount))
 
 
@@ -118,29 +128,34 @@ def check_deal(web, purse, deal):
 
 def web_behind(web, deal):
     """The web behind a deal."""
-    stalls = list(web.stalls)
-    for index, ware, amount in deal:
-        stalls[index] = stall_behind(stalls[index], ware, amount)
+    stalls = web.stalls
+    for move in deal:
+        stalls = stalls_behind(stalls, move)
     return Web(web.wares, stalls)
+
+
+def left_with(web, purse, behind):
+    """What a customer has of each ware who came with a purse and has led the web to the one behind."""
+    # What stalls and customer have together never changes, so the moves need not be paid one by one.
+    return tuple([added(amount, more) for amount, more in zip(purse, change_of(web, behind))])
 
 
 def played(web, purse, deal):
     """The web behind a deal, and what the customer has of each ware then."""
     check_deal(web, purse, deal)
     behind = web_behind(web, deal)
-    # What stalls and customer have together never changes, so the moves need not be paid one by one.
-    change = change_of(web, behind)
-    return (behind, tuple([added(purse[ware], change[ware]) for ware in range(web.wares)]))
+    return (behind, left_with(web, purse, behind))
 
 
 def owes(web, purse, deal):
     """The first move behind which the customer owes, and the least ware owed; None if there is none."""
     check_deal(web, purse, deal)
     stock = held(web)
-    stalls = list(web.stalls)
-    for at, (index, ware, amount) in enumerate(deal):
-        stalls[index] = stall_behind(stalls[index], ware, amount)
+    stalls = web.stalls
+    for at, move in enumerate(deal):
+        stalls = stalls_behind(stalls, move)
         # Nothing was owed up to here, so nothing but the ware put in can be owed now.
+        ware = move[1]
         whole = added(purse[ware], stock[ware])
         if lies_below(whole, kept_of(ware, stalls)):
             return (at, ware)

@@ -99,16 +99,26 @@ def is_step(web, thing):
     return is_index(web, index) and is_integer(ware) and ware in web.stalls[index][:2]
 
 
-def is_ring(web, thing):
-    """Whether a thing is a ring of one pair or more."""
+def end_of(web, step):
+    """The ware that a step leads to."""
+    index, ware = step
+    return across(web.stalls[index], ware)
+
+
+def is_walk(web, thing):
+    """Whether a thing is a tuple of one step or more of unlike stalls, each from where the last one ends."""
     if not isinstance(thing, tuple) or not 0 < len(thing) <= len(web.stalls):
         return False
     if not all([is_step(web, step) for step in thing]):
         return False
     if len(set([index for index, ware in thing])) < len(thing):
         return False
-    ends = [across(web.stalls[index], ware) for index, ware in thing]
-    return ends == [ware for index, ware in thing[1:] + thing[:1]]
+    return all([end_of(web, step) == after[1] for step, after in zip(thing, thing[1:])])
+
+
+def is_ring(web, thing):
+    """Whether a thing is a ring of one pair or more."""
+    return is_walk(web, thing) and end_of(web, thing[-1]) == thing[0][1]
 
 
 def is_uneven(web, ring):

@@ -95,15 +95,22 @@ def bar(web, purse, wish):
     return in_order(filled_back(steps, bar_left(table, wrong), ZERO))
 
 
-def both_sums(web, purse, wish, amounts):
-    """The sum over all wares and the sum over all stalls that make a bar."""
-    stay = may_stay(web, purse, wish)
-    over_wares = [multiplied(stay[ware], squared(amounts[ware])) for ware in range(web.wares)]
-    over_stalls = [
+def over_wares(stay, amounts):
+    """The sum over all wares of this of each, times the square of its amount."""
+    return summed([multiplied(one, squared(amount)) for one, amount in zip(stay, amounts)])
+
+
+def over_stalls(web, amounts):
+    """The sum over all stalls of the double of the root, times the amounts of both its wares."""
+    return summed([
         multiplied(multiplied(TWO, stall[4]), multiplied(amounts[stall[0]], amounts[stall[1]]))
         for stall in web.stalls
-    ]
-    return (summed(over_wares), summed(over_stalls))
+    ])
+
+
+def both_sums(web, purse, wish, amounts):
+    """The sum over all wares and the sum over all stalls that make a bar."""
+    return (over_wares(may_stay(web, purse, wish), amounts), over_stalls(web, amounts))
 
 
 def is_bar(web, purse, wish, thing):
@@ -113,8 +120,8 @@ def is_bar(web, purse, wish, thing):
     if not isinstance(thing, tuple) or not are_amounts(thing, web.wares):
         return False
     # Amounts of 0 all over need no test of their own: both sums are 0 then.
-    over_wares, over_stalls = both_sums(web, purse, wish, thing)
-    return lies_below(over_wares, over_stalls)
+    ware_sum, stall_sum = both_sums(web, purse, wish, thing)
+    return lies_below(ware_sum, stall_sum)
 
 
 def deal_by(web, scales):

@@ -120,6 +120,17 @@ def wrong_orders():
     return wrong + [(0, 1, one) for one in wrong_integers()]
 
 
+def wrong_somes_in_tuples(wares):
+    """Things that are no tuple with some amount for each of so many wares."""
+    least = (ONE,) * (wares - 1)
+    return wrong_tuples(wares) + [least + (wrong,) for wrong in wrong_somes()] + [(ZERO,) * wares]
+
+
+def wrong_strings():
+    """Things that are no string."""
+    return [thing for thing in odd_things() if not isinstance(thing, str)] + [0, 12, ONE, [""]]
+
+
 def wrong_told():
     """Things that are no told wares of a web of three wares."""
     wrong = [thing for thing in odd_things() if thing not in [(1,), (0, 2)]] + [

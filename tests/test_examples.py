@@ -6,7 +6,10 @@ from rootstalls.brims import brim
 from rootstalls.deals import led, out_of
 from rootstalls.drags import drag, one_stall, trees, two_trees
 from rootstalls.fractions import fraction, over, plus
+from rootstalls.levels import least_worth, takings
 from rootstalls.nothing import for_nothing
+from rootstalls.orders import run
+from rootstalls.routes import best_route, route_rule
 from rootstalls.slips import greatest_lots, kept
 from rootstalls.striking import struck
 from rootstalls.told import left_table
@@ -63,6 +66,25 @@ class Examples(unittest.TestCase):
         slips = [(0, (1, 1), 1, (2, 3)), (1, (1, 1), 0, (2, 3))]
         self.assertEqual(
             ([(0, 1)], (7, 12)), (greatest_lots(one, slips), kept(one, slips, (0, 1), 0))
+        )
+
+    def test_e09(self):
+        self.assertEqual(
+            (((1, 1), (2, 1)), ((1, 2), ((2, 0),))),
+            (route_rule(even, ((0, 0), (1, 1))), best_route(even, 0, 2, (1, 1)))
+        )
+
+    def test_e10(self):
+        self.assertEqual(
+            ((2, 5), (1, 3), (1, 11)),
+            run(even, ((1, 1), (0, 1), (0, 1)), "half 0 0\nput 1/10 0 2")[1]
+        )
+
+    def test_e11(self):
+        steep = Web(2, [(0, 1, (1, 1), (4, 1), (2, 1))])
+        self.assertEqual(
+            ((4, 1), [(1, 1)]),
+            (least_worth(steep, ((1, 1), (1, 1))), takings(steep, ((1, 1), (1, 1))))
         )
 
 

@@ -55,6 +55,16 @@ FUNCTIONS = {
         "in_row": "web slips order",
     },
     "customers": {"served": "web customers order", "spread": "web customers"},
+    "levels": {
+        "least_worth": "web rates", "worth_of": "web rates", "levelled": "web rates", "takings": "web rates",
+        "together": "one_web other_web",
+    },
+    "routes": {
+        "route_rule": "web route", "route_out": "web route amount", "route_deal": "web route amount",
+        "meeting": "web one other", "best_route": "web one other amount", "best_spans": "web one other",
+    },
+    "orders": {"run": "web purse text", "alike_orders": "web purse one other"},
+    "brokers": {"tried": "web purse wish broker", "short_by": "web purse ware broker"},
 }
 CLASSES = {
     ("webs", "Web"): {"__init__": "wares stalls", "__eq__": "other"},

@@ -56,6 +56,14 @@ def defined(tree, kind):
     return [node.name for node in tree.body if isinstance(node, kind)]
 
 
+def is_plain(value, functions):
+    """Whether a value at module level is plain, or a table from strings to functions defined above."""
+    if isinstance(value, ast.Dict) and all(isinstance(one, ast.Name) for one in value.values):
+        keys = all(isinstance(key, ast.Constant) for key in value.keys)
+        return keys and all(one.id in functions for one in value.values)
+    return ast.literal_eval(value) is not None
+
+
 class Files(unittest.TestCase):
     def test_plain_files_of_a_fair_size(self):
         for path in FILES:
@@ -75,10 +83,13 @@ class Files(unittest.TestCase):
     def test_module_level(self):
         kinds = (ast.ImportFrom, ast.FunctionDef, ast.ClassDef)
         for name, tree in trees():
+            above = []
             for node in tree.body:
                 docstring = isinstance(node, ast.Expr) and isinstance(node.value, ast.Constant)
-                plain = isinstance(node, ast.Assign) and ast.literal_eval(node.value) is not None
+                plain = isinstance(node, ast.Assign) and is_plain(node.value, above)
                 self.assertTrue(isinstance(node, kinds) or docstring or plain, (name, node.lineno))
+                if isinstance(node, ast.FunctionDef):
+                    above.append(node.name)
 
     def test_imports_name_the_file_that_defines(self):
         known = dict(trees())

@@ -5,8 +5,11 @@ import random
 import unittest
 from fractions import Fraction
 
+from rootstalls.desks import Desk
 from rootstalls.errors import BadWare, StallError
+from rootstalls.fairs import Fair
 from rootstalls.strikings import Striking
+from rootstalls.visits import Visit
 from rootstalls.webs import Web
 
 
@@ -63,7 +66,8 @@ def odd_things():
         None, True, False, Ellipsis, NotImplemented, "", "0", "12", "text", b"", b"12",
         bytearray(b"1"), memoryview(b"1"), range(0), range(3), iter([1]), (x for x in [1]),
         slice(1), int, list, len, print, lambda: 1, object(), property(), BadWare(), StallError,
-        Web, EVEN, LONE, Striking(EVEN, NONE, NONE), {}, {0: ONE, 1: ONE}, [None], (None,), [[]],
+        Web, EVEN, LONE, Striking(EVEN, NONE, NONE), Fair(EVEN), Visit(EVEN, NONE), Desk(),
+        {}, {0: ONE, 1: ONE}, [None], (None,), [[]],
         ([],), ((),), ("01", "23"), (True, 1), (1, True), (1, 0), (2, 4), (1, -1), (0, 2), (1,),
         (1, 2, 3), ("1", "2"), [1, 1], ((1, 1), 1), (1, (1, 1)), ((1, 1), (1, 1), (1, 1), 7),
         nested(list, 40), nested(tuple, 40), nested(dict, 40), [0] * 99999, (0,) * 99999,

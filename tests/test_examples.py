@@ -1,4 +1,4 @@
-"""The examples of the document that have landed."""
+"""The examples of the document."""
 
 import unittest
 

@@ -1,4 +1,4 @@
-"""The interface's parts that have landed: names, arguments, and where they are defined."""
+"""The interface: names, arguments, and where they are defined."""
 
 import importlib
 import inspect
@@ -65,6 +65,11 @@ FUNCTIONS = {
     },
     "orders": {"run": "web purse text", "alike_orders": "web purse one other"},
     "brokers": {"tried": "web purse wish broker", "short_by": "web purse ware broker"},
+    "texts": {
+        "web_text": "web", "read_web": "text", "deal_text": "deal", "read_deal": "text",
+        "slips_text": "web slips", "read_slips": "web text",
+    },
+    "hidden": {"told_back": "wares ask", "roots_of_drags": "drags", "drags_of": "web"},
 }
 CLASSES = {
     ("webs", "Web"): {"__init__": "wares stalls", "__eq__": "other"},
@@ -73,6 +78,16 @@ CLASSES = {
         "left": "", "slant": "ware", "root": "one other", "could": "ware", "depth": "", "copy": "",
         "trying": "deed",
     },
+    ("fairs", "Fair"): {
+        "__init__": "web", "put_up": "stall", "strike": "index", "fill": "index factor", "lead": "index amount",
+        "back": "", "now": "", "meets": "purse wish", "most": "purse ware", "deal": "purse moves", "depth": "",
+        "copy": "", "trying": "deed",
+    },
+    ("visits", "Visit"): {
+        "__init__": "web purse", "put": "index ware amount", "play": "deal", "back": "", "now": "", "has": "",
+        "can": "wish", "most": "ware", "finish": "wish", "depth": "", "copy": "", "trying": "deed",
+    },
+    ("desks", "Desk"): {"__init__": "", "tell": "line", "undoable": ""},
 }
 
 

@@ -8,7 +8,7 @@ from rootstalls.errors import BadIndex, BadStall, NothingDone
 from rootstalls.reckoning import multiplied
 from rootstalls.striking import is_met
 from rootstalls.told import without
-from rootstalls.webs import MOST_STALLS, Web, is_stall
+from rootstalls.webs import MOST_STALLS, Web
 
 
 class Fair:
@@ -23,9 +23,9 @@ class Fair:
     def put_up(self, stall):
         """Puts up a stall more behind the others."""
         web = self.now()
-        place = len(web.stalls)
-        if place >= MOST_STALLS or not is_stall(web.wares, stall):
-            raise BadStall(place)
+        if len(web.stalls) >= MOST_STALLS:
+            raise BadStall(MOST_STALLS)
+        # Of what is no stall the web itself tells the place.
         self._change(Web(web.wares, web.stalls + (stall,)))
 
     def strike(self, index):

@@ -141,7 +141,7 @@ def run(web, purse, text):
 
 def alike_orders(web, purse, one, other):
     """Whether two texts of orders lead to the same web and leave the customer with the same."""
-    check_purse(web, purse)
-    behind, has, _ = run(web, purse, one)
-    other_behind, other_has, _ = run(web, purse, other)
-    return behind == other_behind and has == other_has
+    behind = run(web, purse, one)[0]
+    other_behind = run(web, purse, other)[0]
+    # What customer and stalls have together stays: the same web leaves the customer with the same.
+    return behind == other_behind

@@ -1,19 +1,18 @@
 """Routes: what is put into one stall comes out and is put into the next one.
 
-The rule of a route is the pair (rate, slow): of p that is put in first, rate times p comes out
-last, divided by the sum of 1 and slow times p.
+While routes are compared, their rules are triples (many, base, slow) of integers: of p that is put
+in first, many times p comes out last, divided by the sum of base and slow times p. Several triples
+may be one rule: they are not brought to lowest terms, which would take longer than all the rest.
 """
 
 from rootstalls.deals import check_some, out_of
 from rootstalls.errors import BadRoute
 from rootstalls.nothing import end_of, is_walk
-from rootstalls.reckoning import (
-    ONE, ZERO, added, divided, lessened, lies_below, multiplied,
-)
+from rootstalls.reckoning import ZERO, lies_below, lowest
 from rootstalls.webs import across, check_two, hold_of
 
 # Of nothing done at all just as much comes out as is put in.
-NO_STEPS = ((1, 1), (0, 1))
+NO_STEPS = (1, 1, 0)
 
 
 def check_route(web, thing):
@@ -24,20 +23,18 @@ def check_route(web, thing):
 
 def rule_behind(rule, stall, ware):
     """The rule of a route that goes on from a ware along a stall more."""
-    rate, slow = rule
+    many, base, slow = rule
     kept = hold_of(stall, ware)
     beyond = hold_of(stall, across(stall, ware))
-    return (divided(multiplied(rate, beyond), kept), added(slow, divided(rate, kept)))
+    return (
+        many * beyond[0] * kept[1],
+        base * kept[0] * beyond[1],
+        (slow * kept[0] + many * kept[1]) * beyond[1],
+    )
 
 
-def out_by(rule, amount):
-    """What comes out by a rule when some amount is put in."""
-    rate, slow = rule
-    return divided(multiplied(rate, amount), added(ONE, multiplied(slow, amount)))
-
-
-def route_rule(web, route):
-    """The pair (rate, slow) by which what comes out last follows from what is put in first."""
+def rule_of(web, route):
+    """The rule of a route."""
     check_route(web, route)
     rule = NO_STEPS
     for index, ware in route:
@@ -45,11 +42,34 @@ def route_rule(web, route):
     return rule
 
 
+def out_by(rule, amount):
+    """What comes out by a rule when some amount is put in, as a top and a bottom."""
+    many, base, slow = rule
+    return (many * amount[0], base * amount[1] + slow * amount[0])
+
+
+def rate_of(rule):
+    """The rate of a rule, as a top and a bottom."""
+    return (rule[0], rule[1])
+
+
+def slow_of(rule):
+    """How slow a rule is, as a top and a bottom."""
+    return (rule[2], rule[1])
+
+
+def route_rule(web, route):
+    """The pair (rate, slow) by which what comes out last follows from what is put in first."""
+    rule = rule_of(web, route)
+    return (lowest(rule[0], rule[1]), lowest(rule[2], rule[1]))
+
+
 def route_out(web, route, amount):
     """What comes out last when some amount is put in first."""
-    rule = route_rule(web, route)
+    rule = rule_of(web, route)
     check_some(amount)
-    return out_by(rule, amount)
+    top, bottom = out_by(rule, amount)
+    return lowest(top, bottom)
 
 
 def route_deal(web, route, amount):
@@ -70,25 +90,30 @@ def ends_of(web, route):
     return (route[0][1], end_of(web, route[-1]))
 
 
-def meeting_of(one, other):
-    """The some amount for which two rules bring the same, None if there is none, or for like rules."""
-    ahead = lessened(other[0], one[0])
-    behind = lessened(multiplied(one[0], other[1]), multiplied(other[0], one[1]))
-    if behind == ZERO:
+def meeting_of(rule, other):
+    """The some amount for which two rules bring the same, as a top and a bottom above 0.
+
+    None if there is none, or if they bring the same for all.
+    """
+    top = rule[0] * other[1] - other[0] * rule[1]
+    bottom = other[0] * rule[2] - rule[0] * other[2]
+    if bottom < 0:
+        top, bottom = -top, -bottom
+    if bottom == 0 or top <= 0:
         return None
-    amount = divided(ahead, behind)
-    if amount[0] <= 0:
-        return None
-    return amount
+    return (top, bottom)
 
 
 def meeting(web, one, other):
     """The some amount for which two routes between the same wares bring the same, None if there is none."""
-    rule = route_rule(web, one)
-    other_rule = route_rule(web, other)
+    rule = rule_of(web, one)
+    other_rule = rule_of(web, other)
     if ends_of(web, one) != ends_of(web, other):
         raise BadRoute()
-    return meeting_of(rule, other_rule)
+    found = meeting_of(rule, other_rule)
+    if found is None:
+        return None
+    return lowest(found[0], found[1])
 
 
 def routes_on(web, ware, goal, begun, rule):
@@ -113,65 +138,70 @@ def best_route(web, one, other, amount):
     """The most that a route brings for some amount, and the least route that does; None without a route."""
     check_two(web, one, other)
     check_some(amount)
-    best = None
+    most = best = None
     for route, rule in routes_on(web, one, other, (), NO_STEPS):
         out = out_by(rule, amount)
-        if best is None or lies_below(best[0], out):
-            best = (out, route)
-    return best
+        if best is None or lies_below(most, out):
+            most, best = out, route
+    if best is None:
+        return None
+    return (lowest(most[0], most[1]), best)
 
 
-def is_better_first(one, other):
+def is_better_first(rule, other):
     """Whether one rule brings more than the other one for amounts that are little enough."""
-    if one[0] == other[0]:
-        return lies_below(one[1], other[1])
-    return lies_below(other[0], one[0])
+    if lies_below(rate_of(other), rate_of(rule)):
+        return True
+    return not lies_below(rate_of(rule), rate_of(other)) and lies_below(slow_of(rule), slow_of(other))
 
 
-def first_of(rules):
-    """The rule that is best for amounts that are little enough."""
-    best = rules[0]
-    for rule in rules:
-        if is_better_first(rule, best):
-            best = rule
+def first_of(pairs):
+    """The first pair of a route and its rule that is best for amounts that are little enough."""
+    best = pairs[0]
+    for pair in pairs:
+        if is_better_first(pair[1], best[1]):
+            best = pair
     return best
 
 
-def next_of(rules, rule):
-    """The amount from which another rule is best, and that rule, when one is best up to there; or None."""
+def is_sooner(amount, rule, found, found_rule):
+    """Whether a rule is best from an amount on, rather than one from an amount that has been found."""
+    if lies_below(amount, found):
+        return True
+    # Of several that meet there the one with the least rate is best behind.
+    return not lies_below(found, amount) and lies_below(rate_of(rule), rate_of(found_rule))
+
+
+def next_of(pairs, best):
+    """The amount from which another route is best, when one is up to there, and the first pair of it.
+
+    The amount is None if there is none.
+    """
     found = None
-    for other in rules:
+    after = best
+    for pair in pairs:
         # Two rules meet at most once, and behind that the one with the lesser rate is better.
-        if lies_below(other[0], rule[0]):
-            amount = meeting_of(rule, other)
-            if amount is not None and (found is None or is_sooner(amount, other, found)):
-                found = (amount, other)
-    return found
-
-
-def is_sooner(amount, rule, found):
-    """Whether a rule is best from an amount on, rather than what has been found."""
-    if amount == found[0]:
-        return lies_below(rule[0], found[1][0])
-    return lies_below(amount, found[0])
+        if lies_below(rate_of(pair[1]), rate_of(best[1])):
+            amount = meeting_of(best[1], pair[1])
+            if amount is not None and (found is None or is_sooner(amount, pair[1], found, after[1])):
+                found, after = amount, pair
+    return (found, after)
 
 
 def best_spans(web, one, other):
     """From which amount to which a route is best, by rising amounts from 0 on; None for the last end."""
     check_two(web, one, other)
-    least = {}
-    for route, rule in routes_on(web, one, other, (), NO_STEPS):
-        least.setdefault(rule, route)
-    if not least:
+    pairs = routes_on(web, one, other, (), NO_STEPS)
+    if not pairs:
         return []
-    rules = list(least)
-    rule = first_of(rules)
+    best = first_of(pairs)
     start = ZERO
     spans = []
-    after = next_of(rules, rule)
-    while after is not None:
-        spans.append((start, after[0], least[rule]))
-        start, rule = after
-        after = next_of(rules, rule)
-    spans.append((start, None, least[rule]))
+    amount, after = next_of(pairs, best)
+    while amount is not None:
+        end = lowest(amount[0], amount[1])
+        spans.append((start, end, best[0]))
+        start, best = end, after
+        amount, after = next_of(pairs, best)
+    spans.append((start, None, best[0]))
     return spans

@@ -178,6 +178,7 @@ class Meetings(Case):
         rules = [route_rule(web, ((index, 0),)) for index in (0, 1)]
         self.assertEqual([(ONE, ONE), ((4, 1), (4, 1))], rules)
         self.told(None, meeting, web, ((0, 0),), ((1, 0),))
+        self.told(None, meeting, web, ((1, 0),), ((0, 0),))
 
     def test_both_bring_the_same_there_and_nowhere_else(self):
         met = 0
@@ -319,17 +320,22 @@ class Spans(Case):
         self.told([(ZERO, at, ((2, 0),)), (at, None, ((0, 0),))], best_spans, web, 0, 1)
 
     def test_three_routes_that_meet_at_one_amount(self):
-        # 9 p : 1 + 17 p, 4 p : 1 + 7 p and p : 1 + p are all 1 / 2 for 1: the second one is best just there.
-        web = Web(2, [
-            (0, 1, (1, 17), (9, 17), (3, 17)), (0, 1, (1, 7), (4, 7), (2, 7)), (0, 1, ONE, ONE, ONE),
-        ])
-        self.assertEqual([(1, 2)] * 3, [route_out(web, ((index, 0),), ONE) for index in range(3)])
-        spans = best_spans(web, 0, 1)
-        self.assertEqual((ONE, None, ((2, 0),)), spans[-1])
-        self.assertEqual((ONE, ((0, 0),)), spans[-2][1:])
-        self.assertNotIn(((1, 0),), [route for _, _, route in spans])
-        self.spans_are_best(web, 0, 1, spans)
-        self.told(((1, 2), ((0, 0),)), best_route, web, 0, 1, ONE)
+        # By rates of 9, 4 and 1 they all bring just this much for this amount: the second one is best nowhere else.
+        for amount, much in ((1, Fraction(1, 2)), (100, 10)):
+            stalls = []
+            for root in (3, 2, 1):
+                slow = root * root / Fraction(much) - Fraction(1, amount)
+                stalls.append((0, 1, pair(1 / slow), pair(root * root / slow), pair(root / slow)))
+            for order in permutations(range(3)):
+                web = Web(2, [stalls[index] for index in order])
+                outs = [route_out(web, ((index, 0),), (amount, 1)) for index in range(3)]
+                self.assertEqual([pair(much)] * 3, outs)
+                spans = best_spans(web, 0, 1)
+                self.assertEqual(((amount, 1), None, ((order.index(2), 0),)), spans[-1])
+                self.assertEqual(((amount, 1), ((order.index(0), 0),)), spans[-2][1:])
+                self.assertNotIn(((order.index(1), 0),), [route for _, _, route in spans])
+                self.spans_are_best(web, 0, 1, spans)
+                self.told((pair(much), ((0, 0),)), best_route, web, 0, 1, (amount, 1))
 
     def test_they_are_the_best_routes_everywhere(self):
         many = 0

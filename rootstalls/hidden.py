@@ -49,9 +49,10 @@ def asked(ask, purse, ware):
 
 def answers_of(wares, ask):
     """All answers, by pairs of wares, the brims by 1 of each being under each ware with itself."""
-    answers = {(ware, ware): asked(ask, [ONE] * wares, ware) for ware in range(wares)}
-    for one, other in combinations(list(range(wares)), 2):
-        purse = [TWO if ware == other else ONE for ware in range(wares)]
+    every = list(range(wares))
+    answers = {(ware, ware): asked(ask, [ONE] * wares, ware) for ware in every}
+    for one, other in combinations(every, 2):
+        purse = [TWO if ware == other else ONE for ware in every]
         answers[(one, other)] = asked(ask, purse, one)
     return answers
 
@@ -64,8 +65,9 @@ def square_of(wares, answers):
     """
     if any([answers[pair] == ZERO for pair in answers]):
         return None
-    rows = [[divided(ONE, answers[(ware, ware)])] * wares for ware in range(wares)]
-    for one, other in combinations(list(range(wares)), 2):
+    every = list(range(wares))
+    rows = [[divided(ONE, answers[(ware, ware)])] * wares for ware in every]
+    for one, other in combinations(every, 2):
         less = lessened(rows[one][one], divided(ONE, answers[(one, other)]))
         square = multiplied(less, added(ONE, rows[other][other]))
         root = square_root(square) if square[0] >= 0 else None

@@ -41,12 +41,13 @@ def read_stall(line):
 def read_web(text):
     """The web of a text."""
     lines = lines_of(text)
-    if not lines or read_wares(lines[0]) is None:
+    wares = read_wares(lines[0]) if lines else None
+    if wares is None:
         raise BadText(0)
     stalls = [read_stall(line) for line in lines[1:]]
     if None in stalls:
         raise BadText(1 + stalls.index(None))
-    return Web(read_wares(lines[0]), stalls)
+    return Web(wares, stalls)
 
 
 def deal_text(deal):
